@@ -236,10 +236,10 @@ func TestFitOfWhatIsValid(t *testing.T) {
 		checkFit(t, v, v)
 	}
 	for i := range usual {
-		for n := usual.low(i); n <= highs[i]; n++ {
-			if v := usual.with(i, n); i != fresh || n <= usual[old] {
-				checkFit(t, v, v)
-			}
+		for n := lows[i]; n <= highs[i]; n++ {
+			v := usual.with(fresh, 1).with(old, 10000).with(i, n)
+			checkFit(t, v, v)
+			checkRight(t, v, -1)
 		}
 	}
 }
